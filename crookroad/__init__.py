@@ -1,0 +1,1 @@
+"""Crookroad: bent lines, walked again and again, and who comes back on them."""

@@ -1,0 +1,75 @@
+"""The form of the package's files: those rules of the language that are easily seen."""
+
+import ast
+import re
+import unittest
+from pathlib import Path
+
+PACKAGE = Path(__file__).resolve().parent.parent / "crookroad"
+UNUSED = (
+    "type typing typing_extensions enum Enum IntEnum StrEnum Flag IntFlag Generic Protocol ABC "
+    "ABCMeta namedtuple NamedTuple TypedDict TYPE_CHECKING abstractmethod"
+).split()
+
+
+def sources():
+    return sorted(PACKAGE.rglob("*.py"))
+
+
+def readings():
+    for path in sources():
+        text = path.read_text(encoding="utf-8")
+        yield path.name, text, ast.parse(text)
+
+
+class Form(unittest.TestCase):
+
+    def test_files_are_found(self):
+        names = [path.name for path in sources()]
+        for name in ("__init__.py", "errors.py", "parts.py", "road.py"):
+            self.assertIn(name, names)
+
+    def test_nothing_else_lies_in_the_package(self):
+        for path in PACKAGE.iterdir():
+            if path.name != "__pycache__":
+                self.assertRegex(path.name, r"\A[a-z0-9_]+\.py\Z")
+
+    def test_signs_and_sizes(self):
+        for name, text, tree in readings():
+            self.assertRegex(text, r"\A[\n -~]*\Z", name)
+            rows = text.split("\n")
+            self.assertLessEqual(len(rows), 400, name)
+            self.assertLessEqual(max(len(row) for row in rows), 120, name)
+            for node in ast.walk(tree):
+                if isinstance(node, ast.FunctionDef):
+                    self.assertLessEqual(node.end_lineno - node.lineno + 1, 40, (name, node.name))
+
+    def test_unused_words(self):
+        for name, text, tree in readings():
+            words = re.findall(r"\w+", text)
+            for word in UNUSED:
+                self.assertNotIn(word, words, name)
+
+    def test_imports_are_the_packages_own(self):
+        for name, text, tree in readings():
+            for node in ast.walk(tree):
+                self.assertNotIsInstance(node, ast.Import, name)
+                if isinstance(node, ast.ImportFrom):
+                    self.assertEqual(node.level, 0, name)
+                    self.assertTrue(node.module.startswith("crookroad."), name)
+                    self.assertNotIn("*", [drawn.name for drawn in node.names], name)
+
+    def test_whole_numbers_and_plain_statements(self):
+        banned = (ast.Div, ast.With, ast.Global, ast.Nonlocal, ast.Yield, ast.YieldFrom, ast.Match,
+                  ast.NamedExpr, ast.GeneratorExp, ast.AsyncFunctionDef, ast.Starred)
+        for name, text, tree in readings():
+            for node in ast.walk(tree):
+                if not (isinstance(node, ast.Starred) and isinstance(node.ctx, ast.Store)):
+                    self.assertNotIsInstance(node, banned, name)
+                if isinstance(node, ast.Constant):
+                    self.assertNotIsInstance(node.value, (float, complex), name)
+                    self.assertFalse(isinstance(node.value, str) and "%" in node.value, name)
+
+
+if __name__ == "__main__":
+    unittest.main()
