@@ -1,6 +1,7 @@
 """The form of the package's files: those rules of the language that are easily seen."""
 
 import ast
+import builtins
 import re
 import unittest
 from pathlib import Path
@@ -9,6 +10,10 @@ PACKAGE = Path(__file__).resolve().parent.parent / "crookroad"
 UNUSED = (
     "type typing typing_extensions enum Enum IntEnum StrEnum Flag IntFlag Generic Protocol ABC "
     "ABCMeta namedtuple NamedTuple TypedDict TYPE_CHECKING abstractmethod"
+).split()
+ALLOWED = (
+    "len range enumerate zip min max sum abs sorted reversed int str bool bytes list tuple dict set "
+    "isinstance ord repr any all divmod ValueError KeyError IndexError ZeroDivisionError True False None"
 ).split()
 
 
@@ -22,12 +27,30 @@ def readings():
         yield path.name, text, ast.parse(text)
 
 
+def names_given(tree):
+    """Names that defs take or give themselves."""
+    for node in ast.walk(tree):
+        if isinstance(node, ast.arg):
+            yield node.arg
+        if isinstance(node, ast.Name) and not isinstance(node.ctx, ast.Load):
+            yield node.id
+
+
+def names_drawn(tree):
+    """Names that a file's imports bring, and those of its classes."""
+    for node in ast.walk(tree):
+        if isinstance(node, ast.ImportFrom):
+            yield from [drawn.name for drawn in node.names]
+        if isinstance(node, ast.ClassDef):
+            yield node.name
+
+
 class Form(unittest.TestCase):
 
     def test_files_are_found(self):
         names = [path.name for path in sources()]
-        for name in ("__init__.py", "errors.py", "parts.py", "road.py"):
-            self.assertIn(name, names)
+        for name in ("__init__", "errors", "parts", "road", "cover", "walk", "rings", "order"):
+            self.assertIn(name + ".py", names)
 
     def test_nothing_else_lies_in_the_package(self):
         for path in PACKAGE.iterdir():
@@ -58,6 +81,42 @@ class Form(unittest.TestCase):
                     self.assertEqual(node.level, 0, name)
                     self.assertTrue(node.module.startswith("crookroad."), name)
                     self.assertNotIn("*", [drawn.name for drawn in node.names], name)
+
+    def test_pythons_own_names(self):
+        for name, text, tree in readings():
+            for node in ast.walk(tree):
+                if isinstance(node, ast.Name) and isinstance(node.ctx, ast.Load) and hasattr(builtins, node.id):
+                    self.assertIn(node.id, ALLOWED, name)
+            for given in names_given(tree):
+                self.assertRegex(given, r"\A[A-Za-z]\w*\Z", name)
+                self.assertFalse(hasattr(builtins, given), (name, given))
+
+    def test_no_name_hides_an_import(self):
+        for name, text, tree in readings():
+            drawn = list(names_drawn(tree))
+            self.assertEqual(len(drawn), len(set(drawn)), name)
+            for given in names_given(tree):
+                self.assertNotIn(given, drawn, name)
+
+    def test_each_import_is_used_and_defined_where_it_is_drawn_from(self):
+        trees = {name: tree for name, text, tree in readings()}
+        for name, tree in trees.items():
+            used = [node.id for node in ast.walk(tree) if isinstance(node, ast.Name)]
+            for node in ast.walk(tree):
+                if isinstance(node, ast.ImportFrom):
+                    source = trees[node.module.split(".")[1] + ".py"]
+                    bound = [part.name for part in source.body if isinstance(part, (ast.FunctionDef, ast.ClassDef))]
+                    bound += [part.targets[0].id for part in source.body if isinstance(part, ast.Assign)]
+                    for drawn in node.names:
+                        self.assertIn(drawn.name, bound, name)
+                        self.assertIn(drawn.name, used, name)
+
+    def test_powers_have_written_exponents(self):
+        for name, text, tree in readings():
+            for node in ast.walk(tree):
+                if isinstance(node, ast.BinOp) and isinstance(node.op, ast.Pow):
+                    self.assertIsInstance(node.right, ast.Constant, name)
+                    self.assertIn(node.right.value, range(65), name)
 
     def test_whole_numbers_and_plain_statements(self):
         banned = (ast.Div, ast.With, ast.Global, ast.Nonlocal, ast.Yield, ast.YieldFrom, ast.Match,

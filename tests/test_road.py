@@ -2,39 +2,11 @@
 
 import unittest
 from fractions import Fraction
-from itertools import product
+
+from helper import FALLING, GREAT, MIXED, PRIME, RISING, ZIGZAG, great_roads, line_over, small_roads
 
 from crookroad.errors import BadBottom, BadLine, BadRow, OffRoad
 from crookroad.road import Road
-
-GREAT = 10 ** 70 - 1
-PRIME = 2 ** 127 - 1
-
-ZIGZAG = [0, 24] * 12 + [0]
-RISING = list(range(25))
-FALLING = RISING[::-1]
-MIXED = [3, 5, 5, 0, 1, 4]
-
-
-def small_roads():
-    for width in (1, 2, 3):
-        for heights in product(range(width + 1), repeat=width + 1):
-            yield list(heights)
-
-
-def great_roads():
-    yield ZIGZAG
-    yield RISING
-    yield FALLING
-    yield [7] * 25
-    yield [k * k % 25 for k in range(25)]
-    yield [k * 7 % 13 for k in range(13)]
-    yield MIXED
-
-
-def line_over(heights, x):
-    """The line's height as a sum of tents, one for each corner."""
-    return sum(height * max(Fraction(0), 1 - abs(x - k)) for k, height in enumerate(heights))
 
 
 class Making(unittest.TestCase):
