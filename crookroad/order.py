@@ -3,13 +3,19 @@
 from crookroad.counts import check_count
 
 
-def rank(number):
-    """A tuple that rises as the numbers stand in the order."""
+def halvings(number):
+    """What is left of the number, halved as often as it can be, and how often that is."""
     halved = 0
     odd = number
     while odd % 2 == 0:
         odd = odd // 2
         halved += 1
+    return (odd, halved)
+
+
+def rank(number):
+    """A tuple that rises as the numbers stand in the order."""
+    odd, halved = halvings(number)
     if odd == 1:
         return (1, -halved, 1)
     return (0, halved, odd)

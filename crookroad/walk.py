@@ -54,6 +54,15 @@ def far(road, point, many):
     return spot(points, turn, many)
 
 
+def led_to(place, turn, size, many):
+    """How many of the first so many steps lead to a place of a trace of that size."""
+    if place > many:
+        return 0
+    times = 1 if place < turn else (many - place) // (size - turn) + 1
+    # To stand there at the beginning is no step.
+    return times - 1 if place == 0 else times
+
+
 def stands(road, point, many, other):
     """How many of the first so many steps from the point lead to the other one."""
     here = road.on_road(point)
@@ -62,12 +71,7 @@ def stands(road, point, many, other):
     points, turn = trace(road, here)
     if sought not in points:
         return 0
-    first = points.index(sought)
-    if first > many:
-        return 0
-    times = 1 if first < turn else (many - first) // (len(points) - turn) + 1
-    # To stand there at the beginning is no step.
-    return times - 1 if first == 0 else times
+    return led_to(points.index(sought), turn, len(points), many)
 
 
 def meeting(road, one, other):

@@ -121,8 +121,13 @@ def bent_line(heights, many):
     """The line of so many steps: (place, height) wherever it may bend."""
     knots = [(Fraction(k), Fraction(k)) for k in range(len(heights))]
     for k in range(many):
-        knots = [(x, step_from(heights, y)) for x, y in with_whole_heights(knots)]
+        knots = line_on(heights, knots)
     return knots
+
+
+def line_on(heights, knots):
+    """The bent line of one step more."""
+    return [(x, step_from(heights, y)) for x, y in with_whole_heights(knots)]
 
 
 def with_whole_heights(knots):

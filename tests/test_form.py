@@ -17,6 +17,13 @@ ALLOWED = (
 ).split()
 
 
+METHODS = (
+    "append clear copy count endswith extend find get index insert isalnum isalpha isdigit islower isspace isupper "
+    "items join keys ljust lower lstrip partition pop remove replace reverse rfind rjust rpartition rsplit rstrip "
+    "setdefault split splitlines startswith strip update upper values zfill bit_length add discard sort"
+).split()
+
+
 def sources():
     return sorted(PACKAGE.rglob("*.py"))
 
@@ -49,7 +56,8 @@ class Form(unittest.TestCase):
 
     def test_files_are_found(self):
         names = [path.name for path in sources()]
-        for name in ("__init__", "errors", "parts", "road", "cover", "walk", "rings", "order"):
+        for name in ("__init__", "errors", "parts", "road", "cover", "walk", "rings", "order", "build", "laid", "house",
+                     "notes"):
             self.assertIn(name + ".py", names)
 
     def test_nothing_else_lies_in_the_package(self):
@@ -117,6 +125,42 @@ class Form(unittest.TestCase):
                 if isinstance(node, ast.BinOp) and isinstance(node.op, ast.Pow):
                     self.assertIsInstance(node.right, ast.Constant, name)
                     self.assertIn(node.right.value, range(65), name)
+
+    def test_methods_and_values(self):
+        methods, given = set(), set()
+        for name, text, tree in readings():
+            for node in ast.walk(tree):
+                if isinstance(node, ast.ClassDef):
+                    methods |= {part.name for part in node.body if isinstance(part, ast.FunctionDef)}
+                if isinstance(node, ast.Attribute) and isinstance(node.ctx, ast.Store):
+                    given.add(node.attr)
+        self.assertEqual(methods & given, set())
+        for value in given:
+            self.assertFalse([kind for kind in (str, int, list, dict, set, bytes) if hasattr(kind, value)], value)
+        for name, text, tree in readings():
+            called = [node.func for node in ast.walk(tree) if isinstance(node, ast.Call)]
+            for node in ast.walk(tree):
+                if isinstance(node, ast.Attribute):
+                    allowed = METHODS + list(methods) if node in called else given
+                    self.assertIn(node.attr, allowed, name)
+
+    def test_no_two_files_draw_from_one_another(self):
+        drawn = {}
+        for name, text, tree in readings():
+            drawn[name] = {node.module.split(".")[1] + ".py" for node in ast.walk(tree) if isinstance(node, ast.ImportFrom)}
+        while drawn:
+            free = [name for name, others in drawn.items() if not others & set(drawn)]
+            self.assertNotEqual(free, [], drawn)
+            drawn = {name: others for name, others in drawn.items() if name not in free}
+
+    def test_errors_are_made_of_texts_and_taken_by_name(self):
+        for name, text, tree in readings():
+            for node in ast.walk(tree):
+                if isinstance(node, ast.Raise):
+                    self.assertEqual([type(part) for part in node.exc.args], [ast.Constant], name)
+                    self.assertIsInstance(node.exc.args[0].value, str, name)
+                if isinstance(node, ast.ExceptHandler):
+                    self.assertIsInstance(node.type, ast.Name, name)
 
     def test_whole_numbers_and_plain_statements(self):
         banned = (ast.Div, ast.With, ast.Global, ast.Nonlocal, ast.Yield, ast.YieldFrom, ast.Match,
