@@ -2,6 +2,8 @@
 
 from crookroad.counts import check_count
 
+MOST_TOLD = 200
+
 
 def halvings(number):
     """What is left of the number, halved as often as it can be, and how often that is."""
@@ -38,4 +40,5 @@ def arranged(numbers):
 def following(number, most):
     """The numbers from 1 to the most that are the number or stand behind it, rising by size."""
     check_count(number, 1)
+    check_count(most, 0, MOST_TOLD)
     return [later for later in range(1, most + 1) if not ahead(later, number)]

@@ -21,6 +21,7 @@ def order_up_to(most):
 GREAT_ORDER = [3, 5, 10 ** 60 + 1, 10 ** 69 + 1, GREAT, 6, 2 * (10 ** 68 + 1), GREAT - 1, 12, 4 * (10 ** 40 + 1),
                FAR, 3 * 2 ** 100, 5 ** 20 * 2 ** 100, 3 * 2 ** 230, 2 ** 232, 2 ** 231, 2 ** 64, 2 ** 10, 2, 1]
 WRONG = (0, -1, -2, -3, -6, -GREAT)
+WRONG_MOST = (-1, -2, -3, -200, -GREAT, 201, 202, 203, 400, 10 ** 40, GREAT)
 
 
 class Ahead(unittest.TestCase):
@@ -155,10 +156,27 @@ class Following(unittest.TestCase):
 
     def test_numbers_below_one(self):
         for wrong in WRONG:
-            for most in (0, 1, 200):
+            for most in (0, 1, 200) + WRONG_MOST:
                 with self.subTest(wrong=wrong, most=most):
                     with self.assertRaises(BadCount):
                         following(wrong, most)
+
+    def test_a_most_out_of_its_bounds(self):
+        for number in (1, 2, 3, 7, 12, 200, 201, GREAT):
+            for wrong in WRONG_MOST:
+                with self.subTest(number=number, wrong=wrong):
+                    with self.assertRaises(BadCount):
+                        following(number, wrong)
+
+    def test_both_ends_of_the_most(self):
+        self.assertEqual(following(3, 200), list(range(1, 201)))
+        self.assertEqual(following(200, 200), [1, 2, 4, 8, 16, 32, 48, 64, 80, 96, 112, 128, 144, 160, 176, 192, 200])
+        self.assertEqual(following(7, 0), [])
+
+    def test_the_most_bounds_no_other_number(self):
+        self.assertEqual(following(201, 9), [1, 2, 4, 6, 8])
+        self.assertIs(ahead(201, 202), True)
+        self.assertEqual(arranged([202, 201]), [201, 202])
 
 
 if __name__ == "__main__":
